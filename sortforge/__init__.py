@@ -1,0 +1,1 @@
+"""Sortforge: programs of compares that put rows in order."""
