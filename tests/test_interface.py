@@ -13,6 +13,12 @@ INTERFACE = {
     "programs.py": {"is_program": ["thing", "places"], "places_of": ["program"],
                     "layers": ["program"]},
     "running.py": {"run": ["program", "row"], "changes": ["program", "row"]},
+    "texts.py": {"written": ["program"], "read": ["text"]},
+    "rules.py": {"made": ["rule", "places"], "count_of": ["rule", "places"], "keeps_by": ["rule"]},
+    "proving.py": {"orders": ["program", "places"], "keeps": ["program", "places"],
+                   "witness": ["program", "places"]},
+    "shorter.py": {"idle": ["program", "places"], "without_idle": ["program", "places"],
+                   "shortened": ["program", "places", "keep"]},
 }
 
 # The only modules from outside of which the subset takes names.
